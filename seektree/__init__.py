@@ -1,0 +1,1 @@
+"""Trees by which keys are sought, by how often each is."""
