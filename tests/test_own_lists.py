@@ -4,12 +4,16 @@ import unittest
 
 from seektree.best import best, least, roots, worths
 from seektree.errors import SeekError
+from seektree.even import even, most_steps
+from seektree.notes import read, shown
 from seektree.trees import cost, row_of, seek
+from seektree.turning import turned, turns
 
 KEYS = ["ant", "bee", "cat", "dog"]
 HITS = [4, 0, 7, 1]
 MISSES = [1, 0, 3, 0, 2]
 TREE = ("bee", ("ant", None, None), ("cat", None, ("dog", None, None)))
+OTHER = ("dog", ("cat", ("bee", ("ant", None, None), None), None), None)
 
 CALLS = (
     lambda keys, hits, misses: seek(keys, TREE, "cat"),
@@ -19,6 +23,11 @@ CALLS = (
     roots,
     least,
     best,
+    lambda keys, hits, misses: even(keys),
+    lambda keys, hits, misses: most_steps(keys, TREE),
+    lambda keys, hits, misses: turned(keys, TREE, "dog"),
+    lambda keys, hits, misses: turns(keys, TREE, OTHER),
+    lambda keys, hits, misses: shown(keys, TREE),
 )
 
 
@@ -66,6 +75,26 @@ class HandedIn(unittest.TestCase):
         keys[0] = "ape"
         self.assertEqual(best(keys, hits, misses), ("bee", ("ape", None, None), None))
 
+    def test_the_same_list_with_other_keys_tells_anew(self):
+        keys = ["ant", "bee", "cat"]
+        self.assertEqual(even(keys), ("bee", ("ant", None, None), ("cat", None, None)))
+        keys[1] = "bug"
+        self.assertEqual(even(keys), ("bug", ("ant", None, None), ("cat", None, None)))
+        keys.clear()
+        self.assertIsNone(even(keys))
+        self.assertEqual(most_steps(keys, None), 0)
+        self.assertEqual(shown(keys, None), "-")
+        self.assertEqual(turns(keys, None, None), [])
+
+    def test_trees_stay_as_they_were(self):
+        before = repr((TREE, OTHER))
+        for key in ("ant", "cat", "dog"):
+            turned(KEYS, TREE, key)
+        turns(KEYS, TREE, OTHER)
+        most_steps(KEYS, TREE)
+        shown(KEYS, TREE)
+        self.assertEqual(repr((TREE, OTHER)), before)
+
 
 class Told(unittest.TestCase):
     def test_no_two_lists_are_one(self):
@@ -111,7 +140,32 @@ class Told(unittest.TestCase):
             row.append("zebra")
             self.assertEqual(row_of(tree), fresh)
 
+    def test_turns(self):
+        for one, other in ((TREE, OTHER), (OTHER, TREE), (TREE, TREE)):
+            told = turns(KEYS, one, other)
+            fresh = turns(KEYS, one, other)
+            before = list(fresh)
+            self.assertIsNot(told, fresh)
+            told.append("zebra")
+            told[0] = "yak"
+            self.assertEqual(fresh, before)
+            self.assertEqual(turns(KEYS, one, other), before)
+        turns([], None, None).append("zebra")
+        self.assertEqual(turns([], None, None), [])
+
+    def test_trees_are_tuples_all_through(self):
+        for tree in (even(KEYS), turned(KEYS, TREE, "dog"), turned(KEYS, TREE, "cat"), read(shown(KEYS, TREE))):
+            parts = [tree]
+            for part in parts:
+                self.assertIs(type(part), tuple)
+                parts.extend(below for below in part[1:] if below is not None)
+            self.assertEqual(len(parts), len(KEYS))
+
     def test_kinds(self):
+        self.assertIs(type(most_steps(KEYS, TREE)), int)
+        self.assertIs(type(most_steps([], None)), int)
+        self.assertIs(type(turns(KEYS, TREE, OTHER)), list)
+        self.assertIs(type(shown(KEYS, TREE)), str)
         self.assertIs(type(row_of(TREE)), list)
         self.assertIs(type(seek(KEYS, TREE, "ant")), tuple)
         self.assertIs(type(seek(KEYS, TREE, "cow")), tuple)

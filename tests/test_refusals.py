@@ -4,10 +4,14 @@ import unittest
 
 from reckoning import KEYS12, leaning_left, leaning_right
 from seektree.best import best, least, roots, worths
-from seektree.errors import NoKeys, NoTree, NoWeights
+from seektree.errors import AtRoot, BadText, NoKey, NoKeys, NoTree, NoWeights
+from seektree.even import even, most_steps
+from seektree.notes import read, shown
 from seektree.trees import cost, row_of, seek
+from seektree.turning import turned, turns
 
 OF_WEIGHTS = (worths, roots, least, best)
+OF_TREES = (most_steps, shown)
 
 WRONG_KEYS = (
     [""],
@@ -103,6 +107,11 @@ class WrongKeys(unittest.TestCase):
                     self.assertRaises(NoKeys, function, list(keys), hits, misses)
                 self.assertRaises(NoKeys, cost, list(keys), hits, misses, tree)
                 self.assertRaises(NoKeys, seek, list(keys), tree, "ant")
+                self.assertRaises(NoKeys, even, list(keys))
+                for function in OF_TREES:
+                    self.assertRaises(NoKeys, function, list(keys), tree)
+                self.assertRaises(NoKeys, turned, list(keys), tree, keys[-1])
+                self.assertRaises(NoKeys, turns, list(keys), tree, leaning_left(keys))
 
     def test_ahead_of_wrong_weights_and_trees(self):
         for keys in WRONG_KEYS:
@@ -114,6 +123,22 @@ class WrongKeys(unittest.TestCase):
                 self.assertRaises(NoKeys, cost, keys, [1] * len(keys), [1] * (len(keys) + 1), ("zebra", None, None))
                 self.assertRaises(NoKeys, cost, keys, [], [], leaning_right(keys))
                 self.assertRaises(NoKeys, seek, keys, ("zebra", None, None), "ant")
+                for function in OF_TREES:
+                    self.assertRaises(NoKeys, function, keys, ("zebra", None, None))
+                    self.assertRaises(NoKeys, function, keys, None)
+                self.assertRaises(NoKeys, turned, keys, ("zebra", None, None), keys[0])
+                self.assertRaises(NoKeys, turns, keys, ("zebra", None, None), leaning_left(keys))
+                self.assertRaises(NoKeys, turns, keys, leaning_left(keys), ("zebra", None, None))
+                self.assertRaises(NoKeys, turns, keys, None, None)
+
+    def test_ahead_of_words_that_are_no_keys_and_of_roots(self):
+        for keys in WRONG_KEYS:
+            tree = leaning_right(keys)
+            with self.subTest(keys=keys):
+                self.assertRaises(NoKeys, turned, keys, tree, "zebra")
+                self.assertRaises(NoKeys, turned, keys, tree, tree[0])
+                self.assertRaises(NoKeys, turned, keys, None, "zebra")
+                self.assertRaises(NoKeys, turned, keys, ("zebra", None, None), "zebra")
 
 
 class RightKeys(unittest.TestCase):
@@ -126,6 +151,10 @@ class RightKeys(unittest.TestCase):
                     function(keys, hits, misses)
                 cost(keys, hits, misses, leaning_left(keys))
                 seek(keys, leaning_left(keys), "ant")
+                even(keys)
+                for function in OF_TREES:
+                    function(keys, leaning_left(keys))
+                turns(keys, leaning_left(keys), leaning_right(keys))
 
 
 class WrongWeights(unittest.TestCase):
@@ -179,16 +208,62 @@ class WrongTrees(unittest.TestCase):
                 self.assertRaises(NoTree, seek, keys, tree, "bee")
                 self.assertRaises(NoTree, seek, keys, tree, "cow")
                 self.assertRaises(NoTree, cost, keys, [1, 2, 3], [0, 0, 0, 0], tree)
+                for function in OF_TREES:
+                    self.assertRaises(NoTree, function, keys, tree)
+                self.assertRaises(NoTree, turned, keys, tree, "ant")
+                self.assertRaises(NoTree, turned, keys, tree, "cat")
+                self.assertRaises(NoTree, turns, keys, tree, RIGHT_TREE)
+                self.assertRaises(NoTree, turns, keys, RIGHT_TREE, tree)
+                self.assertRaises(NoTree, turns, keys, tree, tree)
         self.assertEqual(seek(keys, RIGHT_TREE, "bee"), ("key", 1))
         self.assertEqual(cost(keys, [1, 2, 3], [0, 0, 0, 0], RIGHT_TREE), 10)
 
+    def test_ahead_of_words_that_are_no_keys_and_of_roots(self):
+        keys = ["ant", "bee", "cat"]
+        for tree in WRONG_TREES:
+            with self.subTest(tree=tree):
+                for word in ("", "zebra", "dog", "cow", "bee", "a"):
+                    self.assertRaises(NoTree, turned, keys, tree, word)
+                if tree is not None:
+                    self.assertRaises(NoTree, turned, keys, tree, tree[0])
+        self.assertRaises(NoKey, turned, keys, RIGHT_TREE, "zebra")
+        self.assertRaises(AtRoot, turned, keys, RIGHT_TREE, "bee")
+
     def test_of_no_keys(self):
-        self.assertRaises(NoTree, seek, [], ("ant", None, None), "ant")
-        self.assertRaises(NoTree, cost, [], [], [0], ("ant", None, None))
+        tree = ("ant", None, None)
+        self.assertRaises(NoTree, seek, [], tree, "ant")
+        self.assertRaises(NoTree, cost, [], [], [0], tree)
+        for function in OF_TREES:
+            self.assertRaises(NoTree, function, [], tree)
+        self.assertRaises(NoTree, turned, [], tree, "ant")
+        self.assertRaises(NoTree, turned, [], tree, "bee")
+        self.assertRaises(NoTree, turns, [], tree, None)
+        self.assertRaises(NoTree, turns, [], None, tree)
 
     def test_words_that_are_none(self):
         for word in ("", "Ant", "antantant", "an t"):
             self.assertRaises(NoTree, seek, ["ant"], (word, None, None), "ant")
+            for function in OF_TREES:
+                self.assertRaises(NoTree, function, ["ant"], (word, None, None))
+            self.assertRaises(NoTree, turned, ["ant"], (word, None, None), word)
+            self.assertRaises(NoTree, turns, ["ant"], (word, None, None), ("ant", None, None))
+            self.assertRaises(NoTree, turns, ["ant"], ("ant", None, None), (word, None, None))
+
+    def test_of_twelve_keys(self):
+        for place in range(12):
+            tree = leaning_right(KEYS12[:place] + KEYS12[place + 1:])
+            for function in OF_TREES:
+                self.assertRaises(NoTree, function, KEYS12, tree)
+            self.assertRaises(NoTree, turned, KEYS12, tree, "bee")
+            self.assertRaises(NoTree, turns, KEYS12, tree, leaning_left(KEYS12))
+            self.assertRaises(NoTree, turns, KEYS12, leaning_left(KEYS12), tree)
+
+
+class TextsOfNoTree(unittest.TestCase):
+    def test_keys_that_are_none_are_bad_texts(self):
+        # What reading refuses is the text, whatever in it is wrong: never NoKeys or NoTree.
+        for text in ("", "(", "(- Ant -)", "(- bee (- ant -))", "(- ant (- ant -))", "(- abcdefghi -)", "(-  -)"):
+            self.assertRaises(BadText, read, text)
 
 
 class RowOf(unittest.TestCase):
